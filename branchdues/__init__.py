@@ -1,0 +1,1 @@
+"""Branchdues: who gets what down a tree of groups."""
