@@ -48,6 +48,13 @@ def wide_rows(random, amount):
     return rows
 
 
+def bottom_rows(random, amount):
+    """A line of groups with all the leaves below the last one: 12 levels, 60 groups."""
+    above = [""] + [name_of(at) for at in range(LEVELS - 1)]
+    above += above[-1:] * (GROUPS - LEVELS)
+    return [(name_of(at), above[at], (("min", amount(random)), ("low", amount(random)))) for at in range(GROUPS)]
+
+
 def part_of(uses, part):
     return told(part * sum(Fraction(*use) for use in uses.values()))
 
@@ -108,6 +115,22 @@ class BoundsTest(unittest.TestCase):
             first = tree.leaves()[0]
             bound = in_time(self, least, tree, first, left[first], "", "min")[0]
             self.assertLessEqual(Fraction(*bound), Fraction(*left[first]))
+
+    def test_reclaimed_again_and_again(self):
+        """Only where the leaves stand together: elsewhere what is told grows too long for this."""
+        for handing in (False, True):
+            random = Random(11)
+            tree = Tree(bottom_rows(random, long_whole), handing)
+            uses = {leaf: long_whole(random) for leaf in tree.leaves()}
+            for turn in range(3):
+                with self.subTest(handing=handing, turn=turn):
+                    taken = part_of(uses, Fraction(1, 4))
+                    left, rest = in_time(self, reclaimed, tree, uses, "", taken)
+                    gone = Fraction(*part_of(uses, 1)) - Fraction(*part_of(left, 1))
+                    self.assertEqual(gone + Fraction(*rest), Fraction(*taken))
+                    self.assertIs(in_time(self, keeps, tree, uses, "", taken, tree.names()[0]), left == uses)
+                    in_time(self, protected, tree, left, "", "min")
+                    uses = left
 
     def test_guarantees(self):
         for tree, amount, random in self.trees():
