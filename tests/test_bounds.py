@@ -117,7 +117,7 @@ class BoundsTest(unittest.TestCase):
             self.assertLessEqual(Fraction(*bound), Fraction(*left[first]))
 
     def test_reclaimed_again_and_again(self):
-        """Only where the leaves stand together: elsewhere what is told grows too long for this."""
+        """Only whole numbers, with all leaves on one level: else what is told grows too long for this."""
         for handing in (False, True):
             random = Random(11)
             tree = Tree(bottom_rows(random, long_whole), handing)
