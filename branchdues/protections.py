@@ -2,7 +2,7 @@
 
 from branchdues.amounts import ZERO, greater, is_amount, is_less, lesser, minus, over, plus, times, total
 from branchdues.errors import NoAmount, NoKind, NoName, NoUses
-from branchdues.trees import check_top, check_tree, groups_below, leaves_at
+from branchdues.trees import check_top, check_tree, groups_below, is_from_leaves, leaves_at
 
 KINDS = ("min", "low")
 
@@ -19,13 +19,9 @@ def check_amount(amount):
 
 def told_uses(tree, uses):
     """The uses of all leaves of the tree, in the order of the rows."""
-    if not isinstance(uses, dict):
-        raise NoUses("not a dict")
-    leaves = {leaf: True for leaf in tree.leaves()}
-    for leaf in uses:
-        if leaf not in leaves or not is_amount(uses[leaf]):
-            raise NoUses("not from leaves to amounts")
-    return {leaf: uses.get(leaf, ZERO) for leaf in leaves}
+    if not is_from_leaves(tree, uses):
+        raise NoUses("not a dict from leaves to amounts")
+    return {leaf: uses.get(leaf, ZERO) for leaf in tree.leaves()}
 
 
 def with_groups(tree, uses, names):
@@ -89,19 +85,25 @@ def after_go(tree, uses, top, amount, kinds):
     """The uses behind one go that takes nothing of what these kinds protect, and what it could not take."""
     if amount == ZERO:
         return uses, ZERO
-    kept = held(tree, uses, top, kinds[0])
-    for kind in kinds[1:]:
-        more = held(tree, uses, top, kind)
-        kept = {name: greater(kept[name], more[name]) for name in kept}
-    beyond = {leaf: minus(uses[leaf], kept[leaf]) for leaf in uses if leaf in kept}
+    kept = kept_by(tree, uses, top, kinds)
+    beyond = {leaf: minus(uses[leaf], kept[leaf]) for leaf in kept}
     free = total([beyond[leaf] for leaf in beyond])
     left = dict(uses)
     if not is_less(amount, free):
-        left.update({leaf: kept[leaf] for leaf in beyond})
+        left.update(kept)
         return left, minus(amount, free)
     rate = over(amount, free)
     left.update({leaf: minus(uses[leaf], times(beyond[leaf], rate)) for leaf in beyond})
     return left, ZERO
+
+
+def kept_by(tree, uses, top, kinds):
+    """What each leaf below a top is held at, if these kinds protect it."""
+    kept = held(tree, uses, top, kinds[0])
+    for kind in kinds[1:]:
+        more = held(tree, uses, top, kind)
+        kept = {name: greater(kept[name], more[name]) for name in kept}
+    return {leaf: kept[leaf] for leaf in uses if leaf in kept}
 
 
 def keeps(tree, uses, top, amount, name):

@@ -193,6 +193,14 @@ def groups_below(tree, top):
     return list(found)
 
 
+def is_from_leaves(tree, thing):
+    """Whether a thing is a dict from leaves of the tree to amounts."""
+    if not isinstance(thing, dict):
+        return False
+    leaves = {leaf: True for leaf in tree.leaves()}
+    return all([leaf in leaves and is_amount(thing[leaf]) for leaf in thing])
+
+
 def leaves_at(tree, name):
     """The leaves below a group, or a leaf itself, in the order of the rows."""
     inside = {group: True for group in [name] + groups_below(tree, name)}

@@ -4,9 +4,11 @@ import time
 from fractions import Fraction
 
 from branchdues.errors import DueError, NoName, NoTree, Refused
+from branchdues.houses import House
 from branchdues.trees import Tree
 
 SECONDS = 10
+INFINITY = float("inf")
 
 
 def told(number):
@@ -36,7 +38,7 @@ def odd_things():
         "", "p", "Min", "mins", "endless ", "\ud800", b"", b"min", bytearray(b"min"), memoryview(b"min"),
         [], ["p"], [0, 1], (), ("p",), (0,), (0, 1, 1), {}, {"p": 1}, set(), {"p"}, frozenset(), frozenset({"p"}),
         range(2), slice(2), object(), int, len, str.upper, lambda: 1, iter([1]), zip(), (x for x in ()),
-        Tree([]), Tree([row("p")]), ValueError("p"), DueError(), NoName("p"), NoTree(-1), Refused("name"), Tree,
+        Tree([]), Tree([row("p")]), House(), House, ValueError("p"), DueError(), NoName("p"), NoTree(-1), Refused("name"), Tree,
         property(), staticmethod(len), classmethod(len), super(int, 1), enumerate([]), map(len, []), reversed([]),
     ]
 
@@ -106,14 +108,43 @@ def random_number(random):
     return Fraction(random.randrange(40), random.randrange(1, 7))
 
 
-def random_tree(random, most=8):
+def random_shape(random, most=8):
+    """Names with the groups above them."""
     names = list("abcdefghijklmnopqrst"[:random.randrange(1, most + 1)])
     random.shuffle(names)
+    return [(name, random.choice([""] + names[:at] + names[max(0, at - 2):at])) for at, name in enumerate(names)]
+
+
+def random_tree(random, most=8):
     rows = []
-    for at, name in enumerate(names):
-        above = random.choice([""] + names[:at] + names[max(0, at - 2):at])
+    for name, above in random_shape(random, most):
         rows.append(row(name, above, min=random_number(random), low=random_number(random)))
     return Tree(rows, random.random() < 0.5)
+
+
+def random_bound(random):
+    return "endless" if random.random() < 0.25 else random_number(random)
+
+
+def random_budgets(random, most=8):
+    """A tree with limits and budgets."""
+    shape = random_shape(random, most)
+    tops = {name: random_bound(random) for name, above in shape}
+    tops.update({above: "endless" for name, above in shape})
+    rows = []
+    for name, above in shape:
+        dues = {word: random_bound(random) for word in ("max", "quota")}
+        rows.append(row(name, above, burst=random_number(random), tops=tops[name], **dues))
+    return Tree(rows)
+
+
+def number_of(bound):
+    """An amount or endless as something that Python compares and adds."""
+    return INFINITY if bound == "endless" else Fraction(*bound)
+
+
+def due_of(tree, name, word):
+    return number_of(tree.due(name, word))
 
 
 def random_uses(random, tree):
@@ -143,3 +174,40 @@ def in_time(test, function, *told):
     found = function(*told)
     test.assertLess(time.monotonic() - begin, SECONDS, function.__name__)
     return found
+
+
+def random_wants(random, tree, most=5):
+    return [random_uses(random, tree) for period in range(random.randrange(most + 1))]
+
+
+def plain_course(tree, wants):
+    """What the document says of passed, remains and waiting, period by period, word by word."""
+    left, waits = {}, {leaf: Fraction(0) for leaf in tree.leaves()}
+    course = ([], [], [])
+    for at, wanted in enumerate(wants):
+        for name in tree.names():
+            quota, burst = due_of(tree, name, "quota"), due_of(tree, name, "burst")
+            left[name] = min(left[name] + quota, quota + burst) if at else quota
+        for leaf in waits:
+            waits[leaf] += Fraction(*wanted.get(leaf, (0, 1)))
+
+        def offer(name):
+            below = [offer(child) for child in tree.children(name)]
+            own = sum(below) if below else min(waits[name], due_of(tree, name, "tops"))
+            return min(own, left[name])
+
+        passes = {}
+        for name in tree.names():
+            above = tree.above(name)
+            passes[name] = offer(name)
+            if above:
+                together = sum(offer(child) for child in tree.children(above))
+                passes[name] = passes[name] * passes[above] / together if together else Fraction(0)
+        for name in tree.names():
+            left[name] -= passes[name]
+        for leaf in waits:
+            waits[leaf] -= passes[leaf]
+        course[0].append(passes)
+        course[1].append({name: left[name] for name in tree.names() if left[name] != INFINITY})
+        course[2].append(dict(waits))
+    return course

@@ -2,7 +2,10 @@
 
 import unittest
 
+from branchdues.budgets import most, never_binds, passed
 from branchdues.guarantees import least, raised, safe
+from branchdues.houses import House
+from branchdues.limits import binding, bound_by, reach, same_limits
 from branchdues.protections import protected, reclaimed
 from branchdues.trees import Tree
 
@@ -38,6 +41,38 @@ class ExamplesTest(unittest.TestCase):
         r = raised(t, "g", "", "min", (6, 1))
         found = [safe(t, "g", "", "min"), r.due("p", "min"), r.due("g", "min"), safe(r, "g", "", "min")]
         self.same(found, [(0, 1), (21, 1), (6, 1), (6, 1)])
+
+    def test_limits(self):
+        t = Tree([("p", "", (("max", (10, 1)),)), ("a", "p", (("max", (6, 1)),)), ("b", "p", (("max", (7, 1)),))])
+        found = [reach(t), binding(t), bound_by(t, "p")]
+        self.same(found, [{"p": (10, 1), "a": (6, 1), "b": (7, 1)}, ["p", "a", "b"], {"a": (6, 1), "b": (4, 1)}])
+
+    def test_the_same_limits(self):
+        one = Tree([("p", "", (("max", (5, 1)),)), ("a", "p", (("max", (5, 1)),))])
+        other = Tree([("a", "", (("max", (5, 1)),))])
+        found = [same_limits(one, other), same_limits(one, other.with_due("a", "max", (6, 1)))]
+        self.same(found, [None, {"a": (6, 1)}])
+
+    def test_what_passes(self):
+        t = Tree([("g", "", (("quota", (4, 1)), ("burst", (2, 1)))), ("a", "g", (("tops", (5, 1)),))])
+        found = passed(t, [{}, {"a": (9, 1)}, {}])
+        self.same(found, [{"g": (0, 1), "a": (0, 1)}, {"g": (5, 1), "a": (5, 1)}, {"g": (4, 1), "a": (4, 1)}])
+
+    def test_the_most(self):
+        rows = [("g", "", (("quota", (4, 1)), ("burst", (3, 1)))), ("a", "g", (("quota", (2, 1)), ("burst", (1, 1))))]
+        t = Tree(rows + [("b", "g", (("quota", (2, 1)), ("burst", (2, 1))))])
+        self.same([never_binds(t), most(t, "g", 3)], [["g"], (15, 1)])
+
+    def test_a_house(self):
+        h = House()
+        self.same(h.do(("make", "", "g", "")), "done")
+        self.same(h.do(("due", "", "g", "max", 10)), "done")
+        self.same(h.do(("task", "", "t", "g")), "done")
+        self.same(h.do(("task", "", "u", "g")), "done")
+        self.same(h.do(("charge", "t", 6)), "done")
+        self.same(h.do(("charge", "u", 3)), "done")
+        self.same(h.do(("charge", "u", 4)), "done")
+        self.same([h.pages("t"), h.pages("u"), h.events("g")], [{"g": 3}, {"g": 7}, (1, 0, 0, 3)])
 
 
 if __name__ == "__main__":

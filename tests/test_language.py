@@ -79,10 +79,54 @@ class LanguageTest(unittest.TestCase):
                 if isinstance(node, ast.Call):
                     called = node.func
                     if isinstance(called, ast.Name):
-                        self.assertTrue(called.id in own or called.id in BUILTINS, called.id)
+                        known = called.id in own or called.id in BUILTINS or called.id in self.taken_from_tables(tree)
+                        self.assertTrue(known, called.id)
                     else:
                         self.assertIsInstance(called, ast.Attribute)
                         self.assertTrue(called.attr in own or called.attr in METHODS, called.attr)
+
+    def taken_from_tables(self, tree):
+        """The local names that are given a function out of a table of the module."""
+        found = []
+        for node in ast.walk(tree):
+            if isinstance(node, ast.Assign) and isinstance(node.value, ast.Subscript):
+                table = node.value.value
+                if isinstance(table, ast.Name) and table.id.isupper() and isinstance(node.targets[0], ast.Name):
+                    found.append(node.targets[0].id)
+        return found
+
+    def test_names_of_imports_and_classes_are_given_to_nothing_else(self):
+        for path, text, tree in self.files():
+            taken = [alias.name for node in tree.body if isinstance(node, ast.ImportFrom) for alias in node.names]
+            taken += [node.name for node in tree.body if isinstance(node, (ast.ClassDef, ast.FunctionDef))]
+            self.assertEqual(len(set(taken)), len(taken))
+            for node in ast.walk(tree):
+                given = node.arg if isinstance(node, ast.arg) else None
+                if isinstance(node, ast.Name) and isinstance(node.ctx, ast.Store):
+                    given = node.id
+                self.assertNotIn(given, taken)
+
+    def test_imports_are_used_and_go_one_way(self):
+        order = {}
+        for path, text, tree in self.files():
+            order[path.stem] = []
+            for node in tree.body:
+                if isinstance(node, ast.ImportFrom):
+                    order[path.stem].append(node.module.split(".")[1])
+                    for alias in node.names:
+                        used = [one for one in ast.walk(tree) if isinstance(one, ast.Name) and one.id == alias.name]
+                        self.assertTrue(used, alias.name)
+        while order:
+            free = [name for name in order if not [one for one in order[name] if one in order]]
+            self.assertTrue(free, order)
+            for name in free:
+                del order[name]
+
+    def test_builtins_take_lists(self):
+        """Beside a class that compares, no generator expression is handed in."""
+        for path, text, tree in self.files():
+            for node in ast.walk(tree):
+                self.assertNotIsInstance(node, ast.GeneratorExp)
 
     def test_names_of_builtins_are_given_to_nothing_else(self):
         import builtins

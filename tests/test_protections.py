@@ -121,6 +121,13 @@ class ReclaimedTest(unittest.TestCase):
         self.check(rows, {"a": 10, "b": 9, "c": 1}, "", 6, {"a": 7, "b": 6, "c": 1})
         self.check(rows, {"a": 10, "b": 9, "c": 1}, "", 12, {"a": 4, "b": 3, "c": 1})
 
+    def test_both_kinds_together_may_be_more_than_what_stands_above(self):
+        """[34]: each kind by itself is parted by what the group above has of it."""
+        rows = [row("q", min=4, low=4), row("a", "q", min=4), row("b", "q", low=4)]
+        self.check(rows, {"a": 6, "b": 6}, "", 4, {"a": 4, "b": 4})
+        self.check(rows, {"a": 6, "b": 6}, "", 6, {"a": 4, "b": 2})
+        self.check(rows, {"a": 6, "b": 6}, "", 9, {"a": 4, "b": 0}, rest=1)
+
     def test_the_second_go_takes_what_only_low_held(self):
         rows = [row("a", min=2, low=4), row("b", min=3, low=1), row("c", low=1)]
         uses = {"a": 10, "b": 9, "c": 1}
